@@ -1,6 +1,6 @@
 package text
 
-// The machines here go through a text byte by byte; a label is what has just been read, i the place of what comes next.
+// The machines here go through a text byte by byte: a label is a state, named after what is read in it, and i is the place that the machine has come to.
 
 const (
 	maxHexDigits   = fractionBits / digitBits // more have no text of Hex, and would not go into an int
@@ -87,7 +87,7 @@ refused:
 
 // readHex reads m * 2^e out of 0x, 0 or 1, perhaps a point and digits, p, a sign and a power. It asks only for what keeps m and e within their bounds: Unhex asks whether s is the number's own text.
 func readHex(s string) (m, e int, ok bool) {
-	i, n, sign := 2, 0, 1
+	i, digits, powerDigits, sign := 2, 0, 0, 1
 	if at(s, 0) != '0' || at(s, 1) != 'x' {
 		goto refused
 	}
@@ -104,9 +104,9 @@ func readHex(s string) (m, e int, ok bool) {
 	}
 digit:
 	i++
-	if d, hex := hexDigit(at(s, i)); hex && n < maxHexDigits {
+	if d, hex := hexDigit(at(s, i)); hex && digits < maxHexDigits {
 		m = m<<digitBits | d
-		n++
+		digits++
 		goto digit
 	}
 power:
@@ -121,26 +121,18 @@ power:
 	default:
 		goto refused
 	}
-	if e, ok = powerOf(s[i+1:]); ok {
-		return m, sign*e - n*digitBits, true
+powerDigit:
+	i++
+	if c := at(s, i); isDigit(c) && powerDigits < maxPowerDigits {
+		e = 10*e + int(c-'0')
+		powerDigits++
+		goto powerDigit
+	}
+	if i == len(s) {
+		return m, sign*e - digits*digitBits, true
 	}
 refused:
 	return 0, 0, false
-}
-
-// powerOf is what one to four digits tell.
-func powerOf(s string) (int, bool) {
-	if s == "" || len(s) > maxPowerDigits {
-		return 0, false
-	}
-	n := 0
-	for i := range len(s) {
-		if !isDigit(s[i]) {
-			return 0, false
-		}
-		n = 10*n + int(s[i]-'0')
-	}
-	return n, true
 }
 
 // at is byte i of s, and behind its end 0, which no form has.
